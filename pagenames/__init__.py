@@ -1,0 +1,1 @@
+"""Pagenames: names of pages, and where old ones lead."""
