@@ -78,6 +78,41 @@ class Language(unittest.TestCase):
                 self.assertTrue(node.value is None or isinstance(node.value, (bool, int, str)), f"L7 {place}")
                 self.assertNotIn("%", str(node.value), f"L27 {place}")
 
+    def test_tops_of_files_and_classes(self):
+        for path in FILES:
+            for place, node in enumerate(ast.parse(path.read_text()).body):
+                where = f"{path.name}:{node.lineno}"
+                self.assertIsInstance(node, (ast.Expr, ast.ImportFrom, ast.FunctionDef, ast.ClassDef, ast.Assign), f"L3 {where}")
+                if isinstance(node, ast.Expr):
+                    self.assertTrue(place == 0 and isinstance(node.value, ast.Constant), f"L3 {where}")
+                if isinstance(node, ast.Assign):
+                    self.assertIsInstance(node.value, (ast.Constant, ast.Tuple), f"L3 {where}")
+        for file, node in nodes_of(ast.ClassDef):
+            where = f"{file}:{node.lineno}"
+            self.assertTrue(len(node.bases) <= 1 and not node.keywords and not node.decorator_list, f"L5 {where}")
+            self.assertTrue(all(isinstance(part, (ast.FunctionDef, ast.Pass)) for part in node.body), f"L5 {where}")
+
+    def test_no_annotations(self):
+        for file, node in nodes_of((ast.FunctionDef, ast.arg)):
+            noted = node.returns if isinstance(node, ast.FunctionDef) else node.annotation
+            self.assertIsNone(noted, f"L21 {file}:{node.lineno}")
+
+    def test_keywords(self):
+        allowed = {"sorted": ("key", "reverse"), "min": ("key", "default"), "max": ("key", "default"), "sum": ("start",),
+                   "enumerate": ("start",), "zip": ("strict",)}
+        for file, node in nodes_of(ast.Call):
+            for keyword in node.keywords:
+                self.assertIn(keyword.arg, allowed.get(getattr(node.func, "id", ""), ()), f"L22 {file}:{node.lineno}")
+
+    def test_sets_are_only_counted_sorted_and_compared(self):
+        for file, node in nodes_of(ast.AST):
+            counting = isinstance(node, ast.Call) and getattr(node.func, "id", "") in ("len", "sorted") and not node.keywords
+            if counting or isinstance(node, ast.Compare):
+                continue
+            for part in ast.iter_child_nodes(node):
+                made = isinstance(part, ast.Call) and getattr(part.func, "id", "") in ("set", "frozenset")
+                self.assertFalse(made, f"L24 {file}:{getattr(node, 'lineno', 0)}")
+
     def test_names(self):
         for file, node in nodes_of((ast.Name, ast.arg)):
             name = node.id if isinstance(node, ast.Name) else node.arg

@@ -6,8 +6,10 @@ import re
 import unittest
 
 from pagenames.errors import PageError
+from pagenames.moving import flat, is_flat
 from pagenames.names import is_name
 from pagenames.sites import Site
+from pagenames.texts import all_addresses, are_rows, map_text, read_rows, rows_text
 
 TITLES = ("a", "A!", "b", "a b", "B&b", "it's", "?", "abcdefghijklmno", "abcdefghi jk", "abcdefghij kl")
 NO_TITLES = (" a", "", "x" * 31)
@@ -172,12 +174,21 @@ class Walks(unittest.TestCase):
         moved = sorted(each for each in found if found[each][0] == "moved")
         self.assertEqual(site.rows(), tuple((each, model.address(found[each][1])) for each in moved))
         self.assertEqual(site.gone(), tuple(sorted(each for each in found if found[each] == ("gone", None))))
+        # Pages ahead of those in them, lesser numbers first: that is the order of the numbers around them.
+        lines = ["  " * (len(path) - 1) + f"{model.pages[path[-1]][1]} {path[-1]} {model.pages[path[-1]][0]}\n"
+                 for path in sorted(model.around(number) for number in numbers)]
+        self.assertEqual(map_text(site), "".join(lines))
+        self.assertEqual(all_addresses(site), tuple(sorted(model.address(number) for number in numbers)))
 
     def invariants(self, site):
         addresses = [site.address(number) for number in site.pages()]
         self.assertEqual(len(set(addresses)), len(addresses))
         self.assertTrue(all(is_name(name) for address in addresses for name in address))
         self.assertTrue(all(len(address) <= 4 for address in addresses))
+        rows = site.rows()
+        self.assertTrue(are_rows(rows) and is_flat(rows))
+        self.assertEqual(flat(rows), rows)
+        self.assertEqual(read_rows(rows_text(rows)), rows)
 
     def walk(self, seed, steps):
         luck = random.Random(seed)
